@@ -1,0 +1,1 @@
+"""Watervalves: garden valves, of which only some can be open at once."""
