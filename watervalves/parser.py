@@ -79,7 +79,9 @@ class Parser:
 def parse_plan(plan):
     """Return the list of the statements of a plan; raise SyntaxFault."""
     parser = Parser(plan)
-    statements = [parser.take_statement(word) for word in HEAD]
+    statements = []
+    for word in HEAD:
+        statements.append(parser.take_statement(word))
     while parser.ahead() is not None:
         word = parser.ahead()
         if word in HEAD or word not in FORMS:
