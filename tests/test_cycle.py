@@ -3,18 +3,16 @@
 import random
 import unittest
 
-from tests.support import BASE, Drawn
+from tests.support import BASE, Drawn, FAR, LONG
 from watervalves.errors import TooLong
 from watervalves.machine import find_cycle, open_valves, trace, waiting
 
-FAR = 10 ** 18
 # Valves that never wait for each other: their cycles of 147, 51, 24 and 21 ticks have
 # 19,992 ticks together, and the last start decides when the cycle begins.
 NEAR = (
     "round 3; open 4; valves a b c d; start a 0 for 29; start a 2 for 30;"
     "start b 0 for 17; start c 0 for 8; start d {} for 7;"
 )
-LONG = "round 1; open 3; valves a b c; start a 0 for 29; start b 0 for 28; start c 0 for 27;"
 
 
 class Cycles(unittest.TestCase):

@@ -2,9 +2,22 @@
 
 import unittest
 
+from watervalves.comparison import first_difference, first_error
+from watervalves.counting import (
+    count_lost,
+    count_openings,
+    late_valves,
+    longest_delay,
+    nth_opening,
+    opening_ticks,
+    water,
+)
 from watervalves.errors import CheckFault, SyntaxFault
 from watervalves.formatter import format_plan, valves
 from watervalves.machine import find_cycle, open_valves, trace, waiting
+from watervalves.planning import idle_pauses, least_open, plan_shifts
+
+PLAN = "round 6; open 1; valves a b; start a 0 for 2; start b 1 for 2;"
 
 
 class FormatterExamples(unittest.TestCase):
@@ -26,28 +39,72 @@ class FormatterExamples(unittest.TestCase):
         self.assertEqual((fault.reason, fault.line, fault.column), ("unknown", 0, 33))
 
     def test_valves(self):
-        plan = "round 6; open 1; valves a b; start a 0 for 2; start b 1 for 2;"
-        self.assertEqual(valves(plan), ["a", "b"])
+        self.assertEqual(valves(PLAN), ["a", "b"])
 
 
 class MachineExamples(unittest.TestCase):
-    def setUp(self):
-        self.plan = "round 6; open 1; valves a b; start a 0 for 2; start b 1 for 2;"
-
     def test_open_valves(self):
-        self.assertEqual([open_valves(self.plan, tick) for tick in (1, 2, 4)], [["a"], ["b"], []])
+        self.assertEqual([open_valves(PLAN, tick) for tick in (1, 2, 4)], [["a"], ["b"], []])
 
     def test_waiting(self):
-        self.assertEqual(waiting(self.plan, 1), {"a": [], "b": [2]})
+        self.assertEqual(waiting(PLAN, 1), {"a": [], "b": [2]})
 
     def test_trace(self):
         self.assertEqual(
-            list(trace(self.plan, 0, 1)),
+            list(trace(PLAN, 0, 1)),
             [(0, "ask", "a"), (0, "open", "a"), (1, "ask", "b"), (1, "close", "a")],
         )
 
     def test_find_cycle(self):
-        self.assertEqual(find_cycle(self.plan), (0, 6))
+        self.assertEqual(find_cycle(PLAN), (0, 6))
+
+
+class CountingExamples(unittest.TestCase):
+    def test_count_openings(self):
+        self.assertEqual(count_openings(PLAN, "b", 12), 2)
+
+    def test_count_lost(self):
+        self.assertEqual(count_lost(PLAN, "a", 12), 0)
+
+    def test_water(self):
+        self.assertEqual(water(PLAN, "b", 12), 4)
+
+    def test_opening_ticks(self):
+        self.assertEqual(opening_ticks(PLAN, "b"), ([], [2]))
+
+    def test_nth_opening(self):
+        self.assertEqual(nth_opening(PLAN, "b", 3), 14)
+
+    def test_longest_delay(self):
+        self.assertEqual(longest_delay(PLAN), (1, "b", 1))
+
+    def test_late_valves(self):
+        plan = "round 3; open 1; valves a b; start a 0 for 4; start b 1 for 1;"
+        self.assertEqual(late_valves(plan), ["a", "b"])
+
+
+class PlanningExamples(unittest.TestCase):
+    def test_least_open(self):
+        self.assertEqual(least_open(PLAN), 2)
+
+    def test_plan_shifts(self):
+        self.assertEqual(
+            plan_shifts(PLAN, 2),
+            (1, [0, 1], "round 6;\nopen 1;\nvalves a b;\nstart a 0 for 2;\nstart b 2 for 2;"),
+        )
+
+    def test_idle_pauses(self):
+        plan = "round 6; open 1; valves a; start a 0 for 2; pause 1 1; pause 4 5;"
+        self.assertEqual(idle_pauses(plan), [4, 5])
+
+
+class ComparisonExamples(unittest.TestCase):
+    def test_first_difference(self):
+        other = "round 6; open 2; valves b a; start a 0 for 2; start b 1 for 2;"
+        self.assertEqual(first_difference(PLAN, other), (1, ["a"], ["a", "b"]))
+
+    def test_first_error(self):
+        self.assertEqual(first_error(PLAN, [["a"], ["a"], ["a"]]), 2)
 
 
 if __name__ == "__main__":

@@ -1,13 +1,51 @@
 """Point 1, as far as it speaks of every function."""
 
+import inspect
+import random
 import unittest
 
-from tests.support import BASE, CALLS
-from watervalves.errors import CheckFault, GardenError, InvalidTick, SyntaxFault, TooLong
-from watervalves.machine import open_valves, trace, waiting
+from tests.support import BASE, CALLS, FAR, LONG, RUNS
+from watervalves import comparison, counting, formatter, machine, planning
+from watervalves.errors import (
+    CheckFault,
+    DifferentValves,
+    GardenError,
+    InvalidCount,
+    InvalidTick,
+    SyntaxFault,
+    TooLong,
+    TooManyStarts,
+    UnknownValve,
+)
 
-LONG = "round 1; open 3; valves a b c; start a 0 for 29; start b 0 for 28; start c 0 for 27;"
 WRONG = ("", "round 0; open 1; valves a;", "round 9; open 1; valves a a;")
+CHECKED = "round 0; open 1; valves a;"
+# Seven starts, and no situation that comes again early.
+SEVEN = (
+    "round 1; open 9; valves a b c d e f g; start a 0 for 29; start b 0 for 28; start c 0 for 27;"
+    "start d 0 for 1; start e 0 for 1; start f 0 for 1; start g 0 for 1;"
+)
+# Each function of the interface with its parameters.
+INTERFACE = {
+    formatter: {"format_plan": ["plan"], "valves": ["plan"]},
+    machine: {
+        "open_valves": ["plan", "tick"],
+        "waiting": ["plan", "tick"],
+        "trace": ["plan", "first", "last"],
+        "find_cycle": ["plan"],
+    },
+    counting: {
+        "count_openings": ["plan", "name", "ticks"],
+        "count_lost": ["plan", "name", "ticks"],
+        "water": ["plan", "name", "ticks"],
+        "opening_ticks": ["plan", "name"],
+        "nth_opening": ["plan", "name", "number"],
+        "longest_delay": ["plan"],
+        "late_valves": ["plan"],
+    },
+    planning: {"least_open": ["plan"], "plan_shifts": ["plan", "limit"], "idle_pauses": ["plan"]},
+    comparison: {"first_difference": ["plan", "other"], "first_error": ["plan", "log"]},
+}
 
 
 class Repeating(unittest.TestCase):
@@ -35,38 +73,161 @@ class Repeating(unittest.TestCase):
                 self.assertEqual(call(BASE), before)
 
 
-class Order(unittest.TestCase):
-    def test_arguments_are_checked_from_left_to_right(self):
-        for call in (open_valves, waiting, lambda plan, tick: list(trace(plan, tick, tick))):
-            self.assertRaises(SyntaxFault, call, "", -1)
-            self.assertRaises(SyntaxFault, call, None, None)
-            self.assertRaises(CheckFault, call, "round 0; open 1; valves a;", -1)
+    def test_any_order_of_calls_and_plans(self):
+        plans = (BASE, "round 3; open 1; valves b a; start a 0 for 4; start b 1 for 1; pause 2 2;")
+        before = {(name, plan): call(plan) for name, call in CALLS.items() for plan in plans}
+        keys = list(before) * 3
+        random.Random(61).shuffle(keys)
+        for name, plan in keys:
+            with self.subTest(function=name, plan=plan):
+                self.assertEqual(CALLS[name](plan), before[name, plan])
 
-    def test_a_tick_goes_before_a_plan_that_is_too_long(self):
-        for call in (open_valves, waiting, lambda plan, tick: list(trace(plan, tick, tick))):
-            self.assertRaises(InvalidTick, call, LONG, True)
-            self.assertRaises(InvalidTick, call, LONG, 10 ** 18 + 1)
-            self.assertRaises(TooLong, call, LONG, 10 ** 18)
+
+class Results(unittest.TestCase):
+    def spoil(self, found):
+        """Change all that can be changed in a result."""
+        if isinstance(found, dict):
+            for part in found.values():
+                self.spoil(part)
+            found.clear()
+        if isinstance(found, (list, tuple)):
+            for part in found:
+                self.spoil(part)
+        if isinstance(found, list):
+            found.append("z")
+
+    def test_the_caller_may_change_them(self):
+        plan = "round 4; open 1; valves a b; start a 0 for 2; start b 1 for 1; start b 1 for 1; pause 2 2;"
+        for name, call in CALLS.items():
+            with self.subTest(name):
+                before = repr(call(plan))
+                self.spoil(call(plan))
+                self.assertEqual(repr(call(plan)), before)
+
+
+class Order(unittest.TestCase):
+    """The order in which the errors of one call are checked."""
+
+    def assert_order(self, call, *rows):
+        for arguments, error in rows:
+            with self.subTest(arguments):
+                self.assertRaises(error, call, *arguments)
+
+    def test_a_plan_and_a_tick(self):
+        for call in (machine.open_valves, machine.waiting, lambda plan, tick: list(machine.trace(plan, tick, tick))):
+            self.assert_order(
+                call,
+                (("", -1), SyntaxFault),
+                ((None, None), SyntaxFault),
+                ((CHECKED, -1), CheckFault),
+                ((LONG, True), InvalidTick),
+                ((LONG, FAR + 1), InvalidTick),
+                ((LONG, FAR), TooLong),
+            )
+
+    def test_a_plan_a_valve_and_a_number_of_ticks(self):
+        for call in (counting.count_openings, counting.count_lost, counting.water):
+            self.assert_order(
+                call,
+                (("", "z", -1), SyntaxFault),
+                ((None, None, None), SyntaxFault),
+                ((CHECKED, "z", -1), CheckFault),
+                ((LONG, "z", -1), UnknownValve),
+                ((LONG, "z", 1), UnknownValve),
+                ((LONG, "a", -1), InvalidTick),
+                ((LONG, "a", 0), TooLong),
+            )
+
+    def test_opening_ticks(self):
+        self.assert_order(
+            counting.opening_ticks,
+            (("", "z"), SyntaxFault),
+            ((CHECKED, "z"), CheckFault),
+            ((LONG, "z"), UnknownValve),
+            ((LONG, "a"), TooLong),
+        )
+
+    def test_nth_opening(self):
+        self.assert_order(
+            counting.nth_opening,
+            (("", "z", 0), SyntaxFault),
+            ((CHECKED, "z", 0), CheckFault),
+            ((LONG, "z", 0), UnknownValve),
+            ((LONG, "a", 0), InvalidCount),
+            ((LONG, "a", 1), TooLong),
+        )
+
+    def test_plan_shifts(self):
+        self.assert_order(
+            planning.plan_shifts,
+            (("", -1), SyntaxFault),
+            ((CHECKED, -1), CheckFault),
+            ((SEVEN, -1), InvalidCount),
+            ((SEVEN, 13), InvalidCount),
+            ((SEVEN, 12), TooManyStarts),
+            ((LONG, -1), InvalidCount),
+            ((LONG, 0), TooLong),
+        )
+
+    def test_two_plans(self):
+        other = "round 1; open 1; valves z;"
+        self.assert_order(
+            comparison.first_difference,
+            (("", ""), SyntaxFault),
+            (("", CHECKED), SyntaxFault),
+            # The interface lists SyntaxFault before CheckFault, for whichever plan.
+            ((CHECKED, ""), SyntaxFault),
+            ((BASE, ""), SyntaxFault),
+            ((CHECKED, other), CheckFault),
+            ((BASE, CHECKED), CheckFault),
+            ((LONG, other), DifferentValves),
+            ((other, LONG), DifferentValves),
+            ((LONG, LONG), TooLong),
+        )
+
+    def test_a_plan_and_a_log(self):
+        self.assert_order(
+            comparison.first_error,
+            (("", None), SyntaxFault),
+            ((CHECKED, None), CheckFault),
+            ((LONG, None), TooLong),
+            ((LONG, []), TooLong),
+        )
 
     def test_a_fault_of_syntax_goes_before_one_of_the_checks(self):
         for name, call in CALLS.items():
             with self.subTest(name):
                 self.assertRaises(SyntaxFault, call, "round 99; open 1; valves a; ;")
 
+    def test_all_functions_that_run_a_plan_raise_too_long(self):
+        for name, call in RUNS.items():
+            with self.subTest(name):
+                self.assertRaises(TooLong, call, LONG)
+
 
 class Names(unittest.TestCase):
-    def test_arguments_by_their_names(self):
-        self.assertEqual(open_valves(plan=BASE, tick=0), ["a"])
-        self.assertEqual(waiting(plan=BASE, tick=0), {"a": [], "b": []})
-        self.assertEqual(list(trace(plan=BASE, first=0, last=0)), [(0, "ask", "a"), (0, "open", "a")])
-        for name in ("format_plan", "valves", "find_cycle"):
-            CALLS[name](plan=BASE)
+    def test_functions_and_parameters(self):
+        for module, functions in INTERFACE.items():
+            for name, parameters in functions.items():
+                with self.subTest(name):
+                    function = getattr(module, name)
+                    self.assertEqual(list(inspect.signature(function).parameters), parameters)
+                    self.assertEqual(function.__module__, module.__name__)
+                    self.assertEqual(function.__name__, name)
 
-    def test_functions_are_defined_where_the_interface_lists_them(self):
-        for name in ("format_plan", "valves"):
-            self.assertEqual(CALLS[name].__module__, "watervalves.formatter")
-        for function in (open_valves, waiting, trace, CALLS["find_cycle"]):
-            self.assertEqual(function.__module__, "watervalves.machine")
+    def test_arguments_by_their_names(self):
+        values = {"plan": BASE, "other": BASE, "log": [], "name": "a", "tick": 0, "ticks": 1}
+        values.update({"first": 0, "last": 0, "number": 1, "limit": 1})
+        for module, functions in INTERFACE.items():
+            for name, parameters in functions.items():
+                with self.subTest(name):
+                    arguments = {word: values[word] for word in parameters}
+                    function = getattr(module, name)
+                    first = function(*arguments.values())
+                    second = function(**arguments)
+                    if name == "trace":
+                        first, second = list(first), list(second)
+                    self.assertEqual(first, second)
 
 
 if __name__ == "__main__":

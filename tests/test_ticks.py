@@ -2,12 +2,9 @@
 
 import unittest
 
-from tests.support import BASE
+from tests.support import BASE, FAR, WRONG_KINDS
 from watervalves.errors import InvalidTick
 from watervalves.machine import open_valves, trace, waiting
-
-FAR = 10 ** 18
-WRONG_KINDS = (True, False, None, "0", "", (0,), [0], [], ())
 
 
 def watering(plan, many):

@@ -4,14 +4,12 @@ import inspect
 import random
 import unittest
 
-from tests.support import BASE, Drawn
+from tests.support import BASE, Drawn, FAR, LONG
 from watervalves.errors import CheckFault, InvalidTick, SyntaxFault, TooLong
 from watervalves.machine import find_cycle, trace
 
-FAR = 10 ** 18
 # A request and an opening in each tick.
 BUSY = "round 1; open 1; valves a; start a 0 for 1;"
-LONG = "round 1; open 3; valves a b c; start a 0 for 29; start b 0 for 28; start c 0 for 27;"
 
 
 class Events(unittest.TestCase):

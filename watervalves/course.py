@@ -34,6 +34,13 @@ class Course:
         _, queues = self.situations[self.fold(tick + 1)]
         return queues
 
+    def add_up(self, amounts, ticks):
+        """Return the sum over the first so many ticks of an amount that each happening has."""
+        if ticks < self.begin:
+            return sum(amounts[:ticks])
+        cycles, rest = divmod(ticks - self.begin, self.length)
+        return sum(amounts[: self.begin + rest]) + cycles * sum(amounts[self.begin :])
+
 
 def run_course(garden):
     """Return the course of a plan; raise TooLong if no situation comes again early."""

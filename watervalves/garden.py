@@ -28,8 +28,18 @@ class Garden:
 
 def read_plan(plan):
     """Return the garden of a plan; raise SyntaxFault or CheckFault."""
-    statements = parse_plan(plan)
-    check_statements(statements)
+    return read_plans([plan])[0]
+
+
+def read_plans(plans):
+    """Return the gardens of plans; a SyntaxFault in any of them goes before a CheckFault."""
+    parsed = [parse_plan(plan) for plan in plans]
+    for statements in parsed:
+        check_statements(statements)
+    return [_build_garden(statements) for statements in parsed]
+
+
+def _build_garden(statements):
     period = int(statements[0].numbers[0].text)
     limit = int(statements[1].numbers[0].text)
     names = [token.text for token in statements[2].names]

@@ -1,8 +1,8 @@
 """Tells what the valves do in a tick (points 5 and 6)."""
 
+from watervalves.arguments import check_span, check_tick
 from watervalves.course import run_course
 from watervalves.garden import read_plan
-from watervalves.ticks import check_span, check_tick
 
 
 def open_valves(plan, tick):
