@@ -110,8 +110,8 @@ class FirstDifference(unittest.TestCase):
             with self.subTest(plan=plan.text, other=text):
                 self.assertEqual(first_difference(plan.text, text), expected)
                 ticks.append(expected and expected[0])
-        self.assertGreater(ticks.count(None), 10)
-        self.assertGreater(len([tick for tick in ticks if tick and tick > 10]), 10)
+        self.assertGreater(ticks.count(None), 3)
+        self.assertGreater(len([tick for tick in ticks if tick and tick > 10]), 3)
 
     def draw_change(self, plan, source):
         """Return another plan with the same valves and nearly the same parts."""
