@@ -1,6 +1,7 @@
 """What several tests need: calls that take a plan, errors as tuples, and a plain model."""
 
 from watervalves.comparison import first_difference, first_error
+from watervalves.controller import Controller
 from watervalves.counting import (
     count_lost,
     count_openings,
@@ -10,10 +11,12 @@ from watervalves.counting import (
     opening_ticks,
     water,
 )
-from watervalves.errors import CheckFault, SyntaxFault, TooLong
+from watervalves.encoding import encode
+from watervalves.errors import CheckFault, GardenError, SyntaxFault, TooLong
 from watervalves.formatter import format_plan, valves
 from watervalves.machine import find_cycle, open_valves, trace, waiting
 from watervalves.planning import idle_pauses, least_open, plan_shifts
+from watervalves.watching import Meter
 
 BASE = "round 6; open 1; valves a b; start a 0 for 2; start b 1 for 2;"
 # The situations of this plan do not come again early: it raises TooLong.
@@ -42,12 +45,20 @@ RUNS = {
     "idle_pauses": lambda plan: idle_pauses(plan),
     "first_difference": lambda plan: first_difference(plan, plan),
     "first_error": lambda plan: first_error(plan, []),
+    "Meter": lambda plan: Meter(plan).candidates,
+}
+# Every function that takes a plan and does not look for its cycle.
+OTHERS = {
+    "format_plan": format_plan,
+    "valves": valves,
+    "encode": encode,
+    "Controller": lambda plan: Controller(plan).step(9),
+    "Controller.replay": lambda plan: Controller.replay(plan, [("step", 9)]).used,
 }
 # Every function that takes a plan.
 CALLS = {
-    "format_plan": format_plan,
-    "valves": valves,
     "first_difference with a first plan": lambda plan: first_difference(BASE, plan),
+    **OTHERS,
     **RUNS,
 }
 
@@ -70,6 +81,27 @@ def check_fault(call, plan):
     return None
 
 
+def outcome(call, *arguments):
+    """Return what a call returns, or the name and the attributes of the error that it raises."""
+    try:
+        return call(*arguments)
+    except GardenError as fault:
+        return type(fault).__name__, vars(fault)
+
+
+def spoil(found):
+    """Change all that can be changed in a result."""
+    if isinstance(found, dict):
+        for part in found.values():
+            spoil(part)
+        found.clear()
+    if isinstance(found, (list, tuple)):
+        for part in found:
+            spoil(part)
+    if isinstance(found, list):
+        found.append("z")
+
+
 class Model:
     """Runs a plan, given by its parts, by the words of point 5 and nothing else.
 
@@ -82,12 +114,13 @@ class Model:
         self.tick = 0
         self.left = {}
         self.queues = {name: [] for name in names}
+        self.used = {name: 0 for name in names}
 
     def situation(self):
         queues = tuple((name, tuple(queue)) for name, queue in self.queues.items())
         return self.tick % self.period, tuple(sorted(self.left.items())), queues
 
-    def step(self):
+    def step(self, rains=False):
         """Run one tick; return its events, the watering valves and the waiting requests."""
         phase = self.tick % self.period
         events, wet = [], []
@@ -99,7 +132,7 @@ class Model:
                         events.append((self.tick, "lost", name))
                     else:
                         self.queues[name].append(water)
-        if phase not in self.paused:
+        if phase not in self.paused and not rains:
             for name in self.rank:
                 if name not in self.left and self.queues[name] and len(self.left) < self.limit:
                     self.left[name] = self.queues[name].pop(0)
@@ -107,6 +140,7 @@ class Model:
             for name in self.names:
                 if name in self.left:
                     wet.append(name)
+                    self.used[name] += 1
                     self.left[name] -= 1
                     if self.left[name] == 0:
                         del self.left[name]

@@ -173,6 +173,22 @@ class Expressions(unittest.TestCase):
             with self.subTest(file=name, line=getattr(node, "lineno", None)):
                 self.assertNotIsInstance(node, BARRED_NODES)
 
+    def test_decorators(self):
+        for name, node in NODES:
+            if isinstance(node, (ast.FunctionDef, ast.ClassDef)):
+                with self.subTest(file=name, line=node.lineno):
+                    words = [ast.unparse(one) for one in node.decorator_list]
+                    self.assertIn(words, ([], ["property"], ["classmethod"], ["staticmethod"]))
+
+    def test_a_property_changes_nothing(self):
+        for name, node in NODES:
+            if isinstance(node, ast.FunctionDef) and "property" in map(ast.unparse, node.decorator_list):
+                for part in ast.walk(node):
+                    with self.subTest(file=name, line=node.lineno):
+                        self.assertNotIsInstance(part, (ast.AugAssign, ast.Delete))
+                        if isinstance(part, (ast.Attribute, ast.Subscript)):
+                            self.assertIsInstance(part.ctx, ast.Load)
+
     def test_strings(self):
         for name, node in NODES:
             if isinstance(node, ast.Constant):

@@ -1,11 +1,12 @@
-"""Point 1, as far as it speaks of every function."""
+"""Point 1, as far as it speaks of every function, and the names of the interface."""
 
 import inspect
 import random
 import unittest
 
-from tests.support import BASE, CALLS, FAR, LONG, RUNS
-from watervalves import comparison, counting, formatter, machine, planning
+from tests.support import BASE, CALLS, FAR, LONG, OTHERS, RUNS, spoil
+from watervalves import comparison, controller, counting, encoding, formatter, machine, planning, watching
+from watervalves.controller import Controller
 from watervalves.errors import (
     CheckFault,
     DifferentValves,
@@ -17,6 +18,7 @@ from watervalves.errors import (
     TooManyStarts,
     UnknownValve,
 )
+from watervalves.watching import Meter
 
 WRONG = ("", "round 0; open 1; valves a;", "round 9; open 1; valves a a;")
 CHECKED = "round 0; open 1; valves a;"
@@ -45,6 +47,36 @@ INTERFACE = {
     },
     planning: {"least_open": ["plan"], "plan_shifts": ["plan", "limit"], "idle_pauses": ["plan"]},
     comparison: {"first_difference": ["plan", "other"], "first_error": ["plan", "log"]},
+    encoding: {"encode": ["plan"], "decode": ["code"]},
+}
+# Each class of the interface with its methods and their parameters, and its properties.
+CLASSES = {
+    Meter: (
+        watching,
+        {
+            "__init__": ["self", "plan"],
+            "see": ["self", "tick", "count"],
+            "see_from": ["self", "first", "counts"],
+            "possible": ["self", "tick"],
+        },
+        ["candidates", "history"],
+    ),
+    Controller: (
+        controller,
+        {
+            "__init__": ["self", "plan"],
+            "step": ["self", "count"],
+            "rain": ["self", "count"],
+            "request": ["self", "name", "water"],
+            "shut": ["self", "name"],
+            "undo": ["self"],
+            "redo": ["self"],
+            "save": ["self", "name"],
+            "restore": ["self", "name"],
+            "batch": ["self", "operations"],
+        },
+        ["passed", "used", "running", "queued", "operations"],
+    ),
 }
 
 
@@ -72,7 +104,6 @@ class Repeating(unittest.TestCase):
                 call(other)
                 self.assertEqual(call(BASE), before)
 
-
     def test_any_order_of_calls_and_plans(self):
         plans = (BASE, "round 3; open 1; valves b a; start a 0 for 4; start b 1 for 1; pause 2 2;")
         before = {(name, plan): call(plan) for name, call in CALLS.items() for plan in plans}
@@ -84,24 +115,12 @@ class Repeating(unittest.TestCase):
 
 
 class Results(unittest.TestCase):
-    def spoil(self, found):
-        """Change all that can be changed in a result."""
-        if isinstance(found, dict):
-            for part in found.values():
-                self.spoil(part)
-            found.clear()
-        if isinstance(found, (list, tuple)):
-            for part in found:
-                self.spoil(part)
-        if isinstance(found, list):
-            found.append("z")
-
     def test_the_caller_may_change_them(self):
         plan = "round 4; open 1; valves a b; start a 0 for 2; start b 1 for 1; start b 1 for 1; pause 2 2;"
         for name, call in CALLS.items():
             with self.subTest(name):
                 before = repr(call(plan))
-                self.spoil(call(plan))
+                spoil(call(plan))
                 self.assertEqual(repr(call(plan)), before)
 
 
@@ -204,6 +223,11 @@ class Order(unittest.TestCase):
             with self.subTest(name):
                 self.assertRaises(TooLong, call, LONG)
 
+    def test_the_others_do_not(self):
+        for name, call in OTHERS.items():
+            with self.subTest(name):
+                self.assertEqual(call(LONG), call(LONG))
+
 
 class Names(unittest.TestCase):
     def test_functions_and_parameters(self):
@@ -217,7 +241,7 @@ class Names(unittest.TestCase):
 
     def test_arguments_by_their_names(self):
         values = {"plan": BASE, "other": BASE, "log": [], "name": "a", "tick": 0, "ticks": 1}
-        values.update({"first": 0, "last": 0, "number": 1, "limit": 1})
+        values.update({"first": 0, "last": 0, "number": 1, "limit": 1, "code": encoding.encode(BASE)})
         for module, functions in INTERFACE.items():
             for name, parameters in functions.items():
                 with self.subTest(name):
@@ -228,6 +252,42 @@ class Names(unittest.TestCase):
                     if name == "trace":
                         first, second = list(first), list(second)
                     self.assertEqual(first, second)
+
+    def test_classes(self):
+        for kind, (module, methods, properties) in CLASSES.items():
+            with self.subTest(kind.__name__):
+                self.assertEqual(kind.__module__, module.__name__)
+                found = {name for name, thing in vars(kind).items() if callable(thing)}
+                self.assertEqual({name for name in found if name[0] != "_"}, set(methods) - {"__init__"})
+                for name, parameters in methods.items():
+                    self.assertEqual(list(inspect.signature(vars(kind)[name]).parameters), parameters)
+                for name in properties:
+                    self.assertIsInstance(vars(kind)[name], property)
+
+    def test_the_class_method(self):
+        self.assertIsInstance(vars(Controller)["replay"], classmethod)
+        self.assertEqual(list(inspect.signature(Controller.replay).parameters), ["plan", "operations"])
+
+    def test_arguments_of_methods_by_their_names(self):
+        meter = Meter(plan=BASE)
+        self.assertEqual(meter.see(tick=0, count=1), 18)
+        self.assertEqual(meter.see_from(first=0), 18)
+        self.assertEqual(meter.possible(tick=0), [1])
+        told = Controller.replay(plan=BASE, operations=[])
+        told.step(count=1)
+        told.rain(count=1)
+        told.request(name="a", water=1)
+        told.shut(name="a")
+        told.save(name="x")
+        told.restore(name="x")
+        told.batch(operations=[])
+        self.assertEqual(told.operations, ["step", "rain", "request", "shut"])
+
+    def test_properties_cannot_be_assigned(self):
+        for kind, (_, _, properties) in CLASSES.items():
+            for name in properties:
+                with self.subTest(name):
+                    self.assertRaises(AttributeError, setattr, kind(BASE), name, 0)
 
 
 if __name__ == "__main__":

@@ -22,6 +22,20 @@ class State:
         """Return how many valves are open."""
         return len(self.left) - self.left.count(0)
 
+    def ask(self, valve, water):
+        """Let a request for a valve wait, behind the others; return whether it is lost."""
+        if len(self.queues[valve]) >= MOST_WAITING:
+            return True
+        self.queues[valve].append(water)
+        return False
+
+    def duplicate(self):
+        """Return a new state that is the same."""
+        state = State(len(self.left))
+        state.left = list(self.left)
+        state.queues = [list(queue) for queue in self.queues]
+        return state
+
 
 class Happening:
     """What happened in a tick, with the numbers of the valves, in the order of events.
@@ -36,11 +50,14 @@ class Happening:
         self.closed = []
 
 
-def run_tick(garden, state, phase):
-    """Let one tick pass, given by its place in the round, and return what happened."""
+def run_tick(garden, state, phase, rains=False):
+    """Let one tick pass, given by its place in the round, and return what happened.
+
+    In rain it passes as if it were in a pause.
+    """
     happening = Happening()
     _take_requests(garden, state, phase, happening)
-    if not garden.dry[phase]:
+    if not rains and not garden.dry[phase]:
         _open_valves(garden, state, happening)
         _let_water(state, happening)
     return happening
@@ -48,11 +65,7 @@ def run_tick(garden, state, phase):
 
 def _take_requests(garden, state, phase, happening):
     for valve, water in garden.requests[phase]:
-        queue = state.queues[valve]
-        lost = len(queue) >= MOST_WAITING
-        if not lost:
-            queue.append(water)
-        happening.asked.append((valve, lost))
+        happening.asked.append((valve, state.ask(valve, water)))
 
 
 def _open_valves(garden, state, happening):
